@@ -1,0 +1,1 @@
+"""Neverpenned: the game of the runner and the breaker, with strategies that always succeed."""

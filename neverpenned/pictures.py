@@ -1,0 +1,43 @@
+"""Pictures: regions drawn as texts."""
+
+from neverpenned.boxes import AREA_MOST, check_area
+from neverpenned.cells import CELLS_MOST, REACH, check_cell
+from neverpenned.checks import check_length, check_number
+from neverpenned.errors import BadText, TooMany
+from neverpenned.regions import Region
+
+PICTURE_MOST = 6000
+
+
+def picture(region, box):
+    """Return the picture of the region in the box."""
+    check_area(box, AREA_MOST)
+    return "\n".join([_line(region, box, y) for y in range(box.north, box.south - 1, -1)])
+
+
+def read_picture(text, west, south):
+    """Return the region whose picture the text is, with (west, south) as its south-west cell."""
+    check_length(text, PICTURE_MOST)
+    lines = text.split("\n")
+    _check_lines(lines)
+    if text.count("#") > CELLS_MOST:
+        raise TooMany(CELLS_MOST)
+    check_number(west, -REACH, REACH)
+    check_number(south, -REACH, REACH)
+    north = south + len(lines) - 1
+    check_cell((west + len(lines[0]) - 1, north))
+    return Region([(west + column, north - row) for row, line in enumerate(lines)
+                   for column, sign in enumerate(line) if sign == "#"])
+
+
+def _line(region, box, y):
+    """Return the line of the picture for the row y."""
+    return "".join(["#" if (x, y) in region else "." for x in range(box.west, box.east + 1)])
+
+
+def _check_lines(lines):
+    """Raise BadText for the first line that is no line of a picture."""
+    width = len(lines[0])
+    for number, line in enumerate(lines, start=1):
+        if line == "" or len(line) != width or line.count("#") + line.count(".") != width:
+            raise BadText(number)

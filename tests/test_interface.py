@@ -1,0 +1,71 @@
+import importlib
+import inspect
+import unittest
+
+# The functions and classes of each module with the names of their arguments, and for each class its own methods.
+FUNCTIONS = {
+    "cells": ["check_cell(cell)", "neighbours(cell)", "touching(cell)", "distance(first, second)",
+              "cells_within(cell, power)", "moved(cell, east, north)", "cell_text(cell)", "read_cell(text)"],
+    "components": ["components(region)", "holes(region)", "filled(region)"],
+    "pictures": ["picture(region, box)", "read_picture(text, west, south)"],
+    "edges": ["check_edge(edge)", "heading(edge)", "ahead(edge)", "turned_about(edge)", "begin(edge)", "end(edge)",
+              "edge_from(corner, heading)", "edge_image(edge, symmetry)"],
+    "boundaries": ["is_boundary(ground, edge)", "next_edge(ground, edge)", "previous_edge(ground, edge)",
+                   "step_letter(ground, edge)", "boundary(region)", "boundary_length(region)"],
+}
+CLASSES = {
+    ("symmetries", "Symmetry(code)"): ["named(name)", "__call__(cell)", "__mul__(other)", "__invert__()",
+                                       "__eq__(other)"],
+    ("boxes", "Box(west, south, east, north)"): ["around(cells)", "__contains__(cell)", "__and__(other)",
+                                                 "__or__(other)", "__eq__(other)", "inside(other)", "grown(by)",
+                                                 "all_cells()"],
+    ("regions", "Region(cells=())"): ["__len__()", "__contains__(cell)", "__iter__()", "__or__(other)",
+                                      "__and__(other)", "__sub__(other)", "__xor__(other)", "__ior__(other)",
+                                      "__isub__(other)", "__eq__(other)", "inside(other)", "shifted(east, north)",
+                                      "image(symmetry)"],
+}
+PROPERTIES = {("symmetries", "Symmetry"): ["mirrors"], ("boxes", "Box"): ["width", "height", "area"],
+              ("regions", "Region"): ["box"]}
+CLASS_METHODS = {("symmetries", "Symmetry"): ["named"], ("boxes", "Box"): ["around"]}
+
+
+def module_of(name):
+    return importlib.import_module("neverpenned." + name)
+
+
+class InterfaceTest(unittest.TestCase):
+    def test_functions_stand_in_their_modules_with_their_arguments(self):
+        for name in FUNCTIONS:
+            for told in FUNCTIONS[name]:
+                function = getattr(module_of(name), told.partition("(")[0])
+                self.assertTrue(inspect.isfunction(function), told)
+                self.assertEqual(function.__module__, "neverpenned." + name)
+                self.assertEqual(function.__name__ + str(inspect.signature(function)), told)
+
+    def test_classes_stand_in_their_modules_with_their_arguments(self):
+        for name, told in CLASSES:
+            kind = getattr(module_of(name), told.partition("(")[0])
+            self.assertTrue(inspect.isclass(kind), told)
+            self.assertEqual(kind.__module__, "neverpenned." + name)
+            self.assertEqual(kind.__name__ + str(inspect.signature(kind)), told)
+
+    def test_methods_stand_in_their_own_class(self):
+        for name, told in CLASSES:
+            kind = getattr(module_of(name), told.partition("(")[0])
+            for method in CLASSES[name, told]:
+                found = vars(kind)[method.partition("(")[0]]
+                function = found.__func__ if isinstance(found, classmethod) else found
+                first, *rest = inspect.signature(function).parameters.values()
+                self.assertEqual(f"{function.__name__}({', '.join(map(str, rest))})", method)
+
+    def test_properties_and_class_methods(self):
+        for name, kind in PROPERTIES:
+            for told in PROPERTIES[name, kind]:
+                self.assertIsInstance(vars(getattr(module_of(name), kind))[told], property)
+        for name, kind in CLASS_METHODS:
+            for told in CLASS_METHODS[name, kind]:
+                self.assertIsInstance(vars(getattr(module_of(name), kind))[told], classmethod)
+
+
+if __name__ == "__main__":
+    unittest.main()

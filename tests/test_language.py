@@ -1,0 +1,150 @@
+"""Checks of those rules of the Python subset that can be seen in the code of one file."""
+
+import ast
+import builtins
+import io
+import pathlib
+import re
+import tokenize
+import unittest
+
+PACKAGE = pathlib.Path(__file__).resolve().parent.parent / "neverpenned"
+
+LIBRARY = ("heapq", "math", "itertools", "collections")
+
+BUILTINS = set("""
+    len range enumerate zip min max sum abs sorted reversed int str bool list tuple dict set isinstance ord repr any
+    all divmod map iter property classmethod staticmethod super NotImplemented Exception ValueError TypeError KeyError
+    IndexError LookupError ZeroDivisionError ArithmeticError OverflowError RuntimeError NotImplementedError
+""".split())
+
+METHODS = set("""
+    __init__ __eq__ __repr__ __str__ __len__ __enter__ __exit__ __call__ __iter__ __lt__ __le__ __gt__ __ge__ __ne__
+    __add__ __sub__ __mul__ __floordiv__ __mod__ __pow__ __and__ __or__ __xor__ __lshift__ __rshift__
+    __iadd__ __isub__ __imul__ __ior__ __iand__ __ixor__ __neg__ __pos__ __invert__ __abs__ __bool__ __contains__
+    __getitem__ __setitem__
+""".split())
+
+BARRED_NAMES = set("""
+    register mro elements open input law version_info with_traceback add_note attrgetter breakpoint builtins compile
+    copyright credits delattr dir eval exec exit gc getattr globals hasattr help id importlib license locals
+    methodcaller os quit setattr super type vars sys _record _outside _cold _tuplegetter _written_out _member_names
+""".split())
+
+BARRED_WORDS = re.compile(r"\b(type|typing|typing_extensions|enum|Enum|IntEnum|StrEnum|Flag|IntFlag|Generic|Protocol|"
+                          r"ABC|ABCMeta|namedtuple|NamedTuple|TypedDict|TYPE_CHECKING|abstractmethod)\b"
+                          r"|dataclass|overload|contextmanager|_wall\b|_WallAttr")
+
+# What the rules bar altogether, or bar for now in a package whose classes have operators, lengths and iteration.
+BARRED_NODES = (ast.GeneratorExp, ast.SetComp, ast.Global, ast.AsyncFunctionDef, ast.Await, ast.Div, ast.AnnAssign)
+
+
+def files():
+    return sorted(path for path in PACKAGE.rglob("*") if "__pycache__" not in path.parts)
+
+
+def trees():
+    return [(path.name, ast.parse(path.read_text("utf-8"))) for path in files()]
+
+
+def functions(tree):
+    return [node for node in ast.walk(tree) if isinstance(node, ast.FunctionDef)]
+
+
+def docstrings(tree):
+    holders = [node for node in ast.walk(tree) if isinstance(node, (ast.Module, ast.ClassDef, ast.FunctionDef))]
+    return [node.body[0].value for node in holders if ast.get_docstring(node) is not None]
+
+
+def bound_names(node):
+    """The parameters and the assigned names of a function or a module."""
+    names = [part.arg for part in ast.walk(node) if isinstance(part, ast.arg)]
+    names.extend(part.id for part in ast.walk(node) if isinstance(part, ast.Name) and isinstance(part.ctx, ast.Store))
+    return names
+
+
+class LanguageTest(unittest.TestCase):
+    def test_files_and_sizes(self):
+        for path in files():
+            self.assertRegex(path.name, r"^[a-z0-9_]+\.py$")
+            text = path.read_bytes().decode("ascii")
+            self.assertRegex(text, r"^[ -~\n]*$", path.name)
+            lines = text.split("\n")
+            self.assertLess(len(lines), 400, path.name)
+            self.assertLessEqual(max(len(line) for line in lines), 120, path.name)
+        for name, tree in trees():
+            for node in functions(tree):
+                self.assertLessEqual(node.end_lineno - node.lineno + 1, 40, f"{name}: {node.name}")
+
+    def test_what_stands_at_module_level(self):
+        for name, tree in trees():
+            body = tree.body[1:]
+            self.assertIsNotNone(ast.get_docstring(tree), name)
+            self.assertEqual([isinstance(node, ast.ImportFrom) for node in body],
+                             sorted((isinstance(node, ast.ImportFrom) for node in body), reverse=True), name)
+            for node in body:
+                self.assertIsInstance(node, (ast.ImportFrom, ast.FunctionDef, ast.ClassDef, ast.Assign), name)
+                if isinstance(node, ast.Assign):
+                    self.assertIsInstance(node.targets[0], ast.Name, name)
+                    ast.literal_eval(node.value)
+
+    def test_imports_name_the_file_that_defines_the_name(self):
+        defined = {}
+        for name, tree in trees():
+            defined["neverpenned." + name[:-3]] = (
+                [node.name for node in tree.body if isinstance(node, (ast.FunctionDef, ast.ClassDef))]
+                + [node.targets[0].id for node in tree.body if isinstance(node, ast.Assign)])
+        for name, tree in trees():
+            for node in ast.walk(tree):
+                self.assertNotIsInstance(node, ast.Import, name)
+                if isinstance(node, ast.ImportFrom) and node.module not in LIBRARY:
+                    for told in node.names:
+                        self.assertIn(told.name, defined[node.module], name)
+                        self.assertIsNone(told.asname, name)
+
+    def test_names(self):
+        for name, tree in trees():
+            taken = [told.name for node in tree.body if isinstance(node, ast.ImportFrom) for told in node.names]
+            taken.extend(node.name for node in tree.body if isinstance(node, ast.ClassDef))
+            bound = bound_names(tree)
+            called = [node.name for node in ast.walk(tree) if isinstance(node, (ast.FunctionDef, ast.ClassDef))]
+            for word in bound:
+                self.assertNotIn(word, taken, name)
+            for word in [*bound, *called, *taken]:
+                self.assertNotIn(word, BARRED_NAMES, name)
+                self.assertTrue(word in METHODS or not hasattr(builtins, word), f"{name}: {word}")
+                self.assertTrue(word in METHODS or not word.startswith("__"), f"{name}: {word}")
+            known = {*bound, *called, *taken, "_"}
+            for node in ast.walk(tree):
+                if isinstance(node, ast.Name) and isinstance(node.ctx, ast.Load):
+                    self.assertTrue(node.id in known or node.id in BUILTINS, f"{name}: {node.id}")
+                    self.assertNotEqual(node.id, "_", name)
+
+    def test_what_is_not_used(self):
+        for name, tree in trees():
+            for node in ast.walk(tree):
+                self.assertNotIsInstance(node, BARRED_NODES, name)
+                if isinstance(node, ast.Compare) and isinstance(node.ops[0], (ast.Is, ast.IsNot)):
+                    self.assertIsInstance(node.comparators[0], ast.Constant, name)
+                if isinstance(node, (ast.FunctionDef, ast.ClassDef)):
+                    for mark in node.decorator_list:
+                        self.assertIn(ast.unparse(mark), ("property", "classmethod", "staticmethod"), name)
+
+    def test_words_and_signs_in_strings(self):
+        for path in files():
+            text = path.read_text("utf-8")
+            tree = ast.parse(text)
+            kept = docstrings(tree)
+            for node in ast.walk(tree):
+                if isinstance(node, ast.Constant):
+                    self.assertNotIsInstance(node.value, (float, complex, bytes), path.name)
+                    if isinstance(node.value, str) and not any(node is told for told in kept):
+                        self.assertNotIn("%", node.value, path.name)
+                        self.assertIsNone(BARRED_WORDS.search(node.value), path.name)
+            for token in tokenize.generate_tokens(io.StringIO(text).readline):
+                if token.type == tokenize.NAME:
+                    self.assertIsNone(BARRED_WORDS.search(token.string), f"{path.name}: {token.string}")
+
+
+if __name__ == "__main__":
+    unittest.main()
