@@ -1,7 +1,7 @@
 """Boundary edges of a ground, which is a region or a bank, and the steps between them."""
 
 from neverpenned.cells import SIDES, cells_at
-from neverpenned.edges import ahead, check_edge, turned_about
+from neverpenned.edges import ahead, check_edge, edge_beside, turned_about
 from neverpenned.errors import NotBoundary
 
 
@@ -15,7 +15,7 @@ def is_boundary(ground, edge):
 def next_edge(ground, edge):
     """Return the next edge of a boundary edge."""
     letter = step_letter(ground, edge)
-    return _edge_beside(edge, ahead(edge), letter)
+    return edge_beside(edge, ahead(edge), letter)
 
 
 def previous_edge(ground, edge):
@@ -23,7 +23,7 @@ def previous_edge(ground, edge):
     check_boundary(ground, edge)
     right_behind, left_behind = ahead(turned_about(edge))
     letter = _letter(ground, left_behind, right_behind)
-    return _edge_beside(edge, (left_behind, right_behind), letter)
+    return edge_beside(edge, (left_behind, right_behind), letter)
 
 
 def step_letter(ground, edge):
@@ -57,14 +57,3 @@ def _letter(ground, left_cell, right_cell):
     if right_cell not in ground:
         return "s"
     return "r"
-
-
-def _edge_beside(edge, cells, letter):
-    """Return the edge to which the letter leads, where the cells are those beyond the corner at one end."""
-    left, right = edge
-    left_cell, right_cell = cells
-    if letter == "l":
-        return (left, left_cell)
-    if letter == "s":
-        return (left_cell, right_cell)
-    return (right_cell, right)

@@ -40,6 +40,11 @@ def neighbours(cell):
     return cells_at(cell, SIDES)
 
 
+def are_neighbours(first, second):
+    """Tell whether two cells, which may be any, share a side."""
+    return abs(first[0] - second[0]) + abs(first[1] - second[1]) == 1
+
+
 def touching(cell):
     """Return the eight touching cells, counterclockwise from the east."""
     check_cell(cell)

@@ -1,7 +1,7 @@
 """Edges: sides between neighbouring cells, walked in one direction."""
 
-from neverpenned.cells import SIDES
-from neverpenned.checks import check_number
+from neverpenned.cells import SIDES, are_neighbours
+from neverpenned.checks import check_length, check_number
 from neverpenned.errors import BadEdge, BadName
 from neverpenned.symmetries import cell_image
 
@@ -14,13 +14,25 @@ def check_edge(edge):
     (a, b), (c, d) = edge
     if min(a, b, c, d) < -EDGE_REACH or max(a, b, c, d) > EDGE_REACH:
         raise BadEdge(edge)
-    if abs(a - c) + abs(b - d) != 1:
+    if not are_neighbours((a, b), (c, d)):
         raise BadEdge(edge)
+
+
+def check_edges(edges, most):
+    """Raise TooMany if the list is longer than most, then BadEdge for its first edge that is refused."""
+    check_length(edges, most)
+    for edge in edges:
+        check_edge(edge)
 
 
 def heading(edge):
     """Return the direction in which the edge is walked."""
     check_edge(edge)
+    return heading_of(edge)
+
+
+def heading_of(edge):
+    """Return the heading of any edge, also of one that lies too far away to be passed."""
     (a, b), (c, d) = edge
     # The step from left to right, a quarter turn counterclockwise.
     return (b - d, c - a)
@@ -28,9 +40,26 @@ def heading(edge):
 
 def ahead(edge):
     """Return the cells ahead of the left and of the right cell."""
-    east, north = heading(edge)
+    check_edge(edge)
+    return cells_ahead(edge)
+
+
+def cells_ahead(edge):
+    """Return the cells ahead of any edge, also of one that lies too far away to be passed."""
+    east, north = heading_of(edge)
     (a, b), (c, d) = edge
     return ((a + east, b + north), (c + east, d + north))
+
+
+def edge_beside(edge, cells, letter):
+    """Return the edge to which the letter leads, where the cells are those beyond the corner at one end."""
+    left, right = edge
+    left_cell, right_cell = cells
+    if letter == "l":
+        return (left, left_cell)
+    if letter == "s":
+        return (left_cell, right_cell)
+    return (right_cell, right)
 
 
 def turned_about(edge):

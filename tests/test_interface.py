@@ -12,6 +12,13 @@ FUNCTIONS = {
               "edge_from(corner, heading)", "edge_image(edge, symmetry)"],
     "boundaries": ["is_boundary(ground, edge)", "next_edge(ground, edge)", "previous_edge(ground, edge)",
                    "step_letter(ground, edge)", "boundary(region)", "boundary_length(region)"],
+    "contours": ["contours(region)", "contour_through(region, edge)"],
+    "turnwords": ["word_of(loop)", "walk_of(edge, word)", "loop_of(edge, word)"],
+    "filling": ["total_windings(loops)", "region_of(loops)"],
+    "closings": ["closing(last, first)", "closed_stretch(edges, first, last)"],
+    "rotation": ["turn_sum(loop)", "euler(region)"],
+    "cuts": ["cut_size(basin, cells)", "least_cuts(basin)"],
+    "streams": ["full_streams(basin)", "stream_count(basin)"],
 }
 CLASSES = {
     ("symmetries", "Symmetry(code)"): ["named(name)", "__call__(cell)", "__mul__(other)", "__invert__()",
@@ -23,9 +30,13 @@ CLASSES = {
                                       "__and__(other)", "__sub__(other)", "__xor__(other)", "__ior__(other)",
                                       "__isub__(other)", "__eq__(other)", "inside(other)", "shifted(east, north)",
                                       "image(symmetry)"],
+    ("loops", "Loop(edges=())"): ["__len__()", "__iter__()", "__eq__(other)", "winding(cell)", "windings()",
+                                  "__neg__()", "__add__(other)", "image(symmetry)", "begun_at(at)"],
+    ("basins", "Basin(struck, barred=())"): ["rows()", "is_open(cell)", "is_exit(cell, other)", "open_cells()",
+                                             "mirrored()"],
 }
 PROPERTIES = {("symmetries", "Symmetry"): ["mirrors"], ("boxes", "Box"): ["width", "height", "area"],
-              ("regions", "Region"): ["box"]}
+              ("regions", "Region"): ["box"], ("loops", "Loop"): ["area"], ("basins", "Basin"): ["sources", "box"]}
 CLASS_METHODS = {("symmetries", "Symmetry"): ["named"], ("boxes", "Box"): ["around"]}
 
 

@@ -102,6 +102,37 @@ class LanguageTest(unittest.TestCase):
                         self.assertIn(told.name, defined[node.module], name)
                         self.assertIsNone(told.asname, name)
 
+    def test_no_two_files_import_from_each_other(self):
+        imported = {name[:-3]: [node.module.partition(".")[2] for node in tree.body if isinstance(node, ast.ImportFrom)
+                                and node.module.startswith("neverpenned.")] for name, tree in trees()}
+        while imported:
+            lowest = [name for name in imported if not any(other in imported for other in imported[name])]
+            self.assertNotEqual(lowest, [], sorted(imported))
+            for name in lowest:
+                del imported[name]
+
+    def test_what_is_imported_is_used(self):
+        for name, tree in trees():
+            used = [node.id for node in ast.walk(tree) if isinstance(node, ast.Name)]
+            for node in tree.body:
+                for told in node.names if isinstance(node, ast.ImportFrom) else ():
+                    self.assertIn(told.name, used, name)
+
+    def test_what_is_iterated_at_once(self):
+        for name, tree in trees():
+            iterated = [node.iter for node in ast.walk(tree) if isinstance(node, (ast.For, ast.comprehension))]
+            for node in ast.walk(tree):
+                if isinstance(node, ast.Call) and isinstance(node.func, ast.Name):
+                    iterated.extend(node.args)
+            ranges = [node.value for node in ast.walk(tree) if isinstance(node, ast.Assign)]
+            for node in ast.walk(tree):
+                if isinstance(node, ast.Call):
+                    word = ast.unparse(node.func).rpartition(".")[2]
+                    if word in ("range", "zip", "enumerate", "reversed", "items", "keys", "values"):
+                        at_once = any(node is told for told in iterated)
+                        kept = word == "range" and any(node is told for told in ranges)
+                        self.assertTrue(at_once or kept, f"{name}: {node.lineno}")
+
     def test_names(self):
         for name, tree in trees():
             taken = [told.name for node in tree.body if isinstance(node, ast.ImportFrom) for told in node.names]

@@ -1,0 +1,42 @@
+"""The examples of the document that need no more than the modules there are."""
+
+import unittest
+
+from support import PlayCase
+
+from neverpenned.basins import Basin
+from neverpenned.closings import closing
+from neverpenned.components import components, holes
+from neverpenned.contours import contours
+from neverpenned.regions import Region
+from neverpenned.rotation import euler
+from neverpenned.streams import stream_count
+from neverpenned.symmetries import Symmetry
+from neverpenned.turnwords import word_of
+
+
+class ExamplesTest(PlayCase):
+    def test_symmetries(self):
+        quarter = Symmetry(1)
+        mirror = Symmetry(4)
+        self.same([quarter((2, 1)), (mirror * quarter)((2, 1)), (mirror * quarter).name, (~quarter).code],
+                  [(-1, 2), (1, 2), "er", 3])
+
+    def test_contours(self):
+        loops = contours(Region([(0, 0), (1, 0), (1, 1)]))
+        self.same([len(loops), loops[0].edges[0], word_of(loops[0]), loops[0].area],
+                  [1, ((0, 0), (-1, 0)), "lslsllrl", 3])
+
+    def test_rotation(self):
+        diamond = Region([(1, 0), (0, 1), (-1, 0), (0, -1)])
+        self.same([len(components(diamond)), len(holes(diamond)), euler(diamond)], [4, 0, 4])
+
+    def test_closings(self):
+        self.same(closing(((0, 1), (0, 0)), ((-1, 0), (0, 0))), [((1, 0), (0, 0)), ((0, -1), (0, 0))])
+
+    def test_the_streams_of_the_example_of_banks(self):
+        self.same(stream_count(Basin([(0, 0), (1, 0)])), 5)
+
+
+if __name__ == "__main__":
+    unittest.main()
