@@ -1,6 +1,6 @@
 """Basins: struck cells near the shore, the box around them, and barred cells."""
 
-from neverpenned.boxes import Box, bounds
+from neverpenned.boxes import AREA_MOST, Box, bounds, check_area
 from neverpenned.cells import are_neighbours, check_cells
 
 BAND = 39
@@ -59,11 +59,21 @@ class Basin:
         box = self.box
         if box is None:
             return []
-        return [cell for cell in box.all_cells() if cell not in self._blocked]
+        check_area(box, AREA_MOST)
+        return every_open_cell(self)
 
     def mirrored(self):
         """Return the basin with north and south exchanged."""
         return Basin([(x, -y) for x, y in self.struck], [(x, -y) for x, y in self.barred])
+
+
+def every_open_cell(basin):
+    """Return the list of the open cells, ascending, however large the box is."""
+    box = basin.box
+    if box is None:
+        return []
+    rows = basin.rows()
+    return [(x, y) for x in range(box.east + 1) for y in rows if basin.is_open((x, y))]
 
 
 def _box_corners(sources):

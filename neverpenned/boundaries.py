@@ -1,7 +1,7 @@
 """Boundary edges of a ground, which is a region or a bank, and the steps between them."""
 
 from neverpenned.cells import SIDES, cells_at
-from neverpenned.edges import ahead, check_edge, edge_beside, turned_about
+from neverpenned.edges import ahead, cells_ahead, check_edge, edge_beside, turned_about
 from neverpenned.errors import NotBoundary
 
 
@@ -14,8 +14,15 @@ def is_boundary(ground, edge):
 
 def next_edge(ground, edge):
     """Return the next edge of a boundary edge."""
-    letter = step_letter(ground, edge)
-    return edge_beside(edge, ahead(edge), letter)
+    check_boundary(ground, edge)
+    return following_edge(ground, edge)
+
+
+def following_edge(ground, edge):
+    """Return the next edge of any boundary edge, also of one that lies too far away to be passed."""
+    left_ahead, right_ahead = cells_ahead(edge)
+    letter = _letter(ground, left_ahead, right_ahead)
+    return edge_beside(edge, (left_ahead, right_ahead), letter)
 
 
 def previous_edge(ground, edge):

@@ -1,15 +1,20 @@
-"""Flows: the sides between the cells of a basin that streams pass, and how streams are added."""
+"""Flows: full streams of a basin, as the sides between cells that they pass."""
 
 from neverpenned.cells import SIDES
 
-# The kinds of the cells of a flow.
+# The kinds of the cells of a flow. From a closed cell no exit can be reached any more; the shore is closed, too.
 OPEN = 0
 EXIT = 1
-SHORE = 2
+CLOSED = 2
+
+# The sides of a cell, as indexes of SIDES, in the order in which a search tries them.
+EAST = 0
+NORTH_FIRST = (1, 2, 0, 3)
+SOUTH_FIRST = (3, 2, 0, 1)
 
 
 class Flow:
-    """Streams of a basin that has a box, at first none.
+    """Full streams of a basin that has a box.
 
     The cells of the box and those around it have numbers, in ascending order of the cells. A way leads from a cell over
     one of its sides; its number is four times that of the cell plus the index of the step in SIDES.
@@ -20,18 +25,14 @@ class Flow:
         self._south = box.south - 1
         self._span = box.height + 2
         self._steps = [east * self._span + north for east, north in SIDES]
-        self._kinds = [_kind(basin, (x, y)) for x in range(-1, box.east + 2)
-                       for y in range(box.south - 1, box.north + 2)]
+        self._kinds = _kinds(basin, box)
         self._passed = [False] * (len(SIDES) * len(self._kinds))
-        self._outlets = [way for number, kind in enumerate(self._kinds) if kind == OPEN
-                         for way in self._ways_from(number) if self._kinds[self._end_of(way)] == EXIT]
         self._begun = []
-
-    def add_streams(self, cells):
-        """Begin as many streams as can be at the cells, at each of them as often as the list has it."""
-        waiting = [self._number_of(cell) for cell in cells]
-        while waiting:
-            waiting = self._add_nearing(waiting)
+        self._sources = [self._number_of(cell) for cell in basin.sources]
+        self._add_shore_streams()
+        for source in self._sources:
+            self._add_stream(source, NORTH_FIRST)
+            self._add_stream(source, SOUTH_FIRST)
 
     def count_streams(self):
         """Return the number of the streams."""
@@ -42,61 +43,57 @@ class Flow:
         passed = list(self._passed)
         return [self._take_stream(first, passed) for first in sorted(self._begun)]
 
-    def _add_nearing(self, firsts):
-        """Begin streams that come nearer to an exit with each step; return the first cells that are to wait."""
-        distances = self._exit_distances()
-        sides = [0] * len(self._kinds)
-        waiting = []
-        for first in firsts:
-            entry = self._entry(first)
-            # From where no exit is reached now, none is reached later: other streams cannot come there.
-            if distances[entry] is not None:
-                ways = self._nearing_ways(entry, distances, sides)
-                if ways is None:
-                    waiting.append(first)
-                else:
-                    self._begun.append(first)
-                    self._pass_ways(ways)
-        return waiting
+    def closed_cells(self):
+        """Return the cells, ascending, to which rest steps lead from sources that do not leak; these are included."""
+        for source in self._sources:
+            self._way_out(source, NORTH_FIRST)
+        return [self._cell_at(number) for number, kind in enumerate(self._kinds)
+                if kind == CLOSED and number >= self._span]
 
-    def _exit_distances(self):
-        """Return for each cell how many rest steps at least lead from it to an exit, or None if none do."""
-        distances = [0 if kind == EXIT else None for kind in self._kinds]
-        ways = self._outlets
-        distance = 1
-        while ways:
-            reached = []
-            for way in ways:
-                number = way // len(SIDES)
-                if distances[number] is None and not self._passed[way]:
-                    distances[number] = distance
-                    reached.append(number)
-            ways = [way for number in reached for way in self._ways_to(number)]
-            distance += 1
-        return distances
+    def _add_shore_streams(self):
+        """Begin a stream at the shore in every row and let it go straight east."""
+        for first in range(1, self._span - 1):
+            self._begun.append(first)
+            here = first + self._span
+            while self._kinds[here] == OPEN:
+                self._passed[len(SIDES) * here + EAST] = True
+                here += self._span
 
-    def _nearing_ways(self, entry, distances, sides):
-        """Return the ways of a new stream from the entry on, or None if it cannot always come nearer to an exit.
+    def _add_stream(self, source, order):
+        """Begin one more stream at the source, if that can be."""
+        ways = self._way_out(source, order)
+        if ways is not None:
+            self._begun.append(source)
+            self._pass_ways(ways)
 
-        `sides` tells for each cell how many of its sides are known to be of no use.
-        """
+    def _way_out(self, start, order):
+        """Return ways by rest steps from the start to an exit; without any, return None and close what was reached."""
+        if self._kinds[start] == CLOSED:
+            return None
+        tried = {start: 0}
         ways = []
-        here = entry
-        while self._kinds[here] == OPEN:
-            if sides[here] == len(SIDES):
-                if len(ways) == 0:
-                    return None
-                here = ways.pop() // len(SIDES)
-                sides[here] += 1
-            else:
-                way = len(SIDES) * here + sides[here]
-                other = self._end_of(way)
-                if distances[other] == distances[here] - 1 and not self._passed[way]:
+        here = start
+        while self._kinds[here] != EXIT:
+            at = tried[here]
+            if at < len(order):
+                tried[here] = at + 1
+                way = len(SIDES) * here + order[at]
+                other = here + self._steps[order[at]]
+                if not self._passed[way] and self._kinds[other] != CLOSED and other not in tried:
+                    tried[other] = 0
                     ways.append(way)
                     here = other
-                else:
-                    sides[here] += 1
+            elif ways:
+                here = ways.pop() // len(SIDES)
+            else:
+                self._close(tried)
+                return None
         return ways
+
+    def _close(self, numbers):
+        """Close these cells: no later stream can leave them, so that no search needs to enter them again."""
+        for number in numbers:
+            self._kinds[number] = CLOSED
 
     def _pass_ways(self, ways):
         """Let one more stream pass the ways; two streams that pass a side in opposite directions pass it no longer."""
@@ -109,10 +106,10 @@ class Flow:
 
     def _take_stream(self, first, passed):
         """Return the cells of a stream that begins at the first cell, and take its ways from those that are passed."""
-        entry = self._entry(first)
+        entry = first + self._span if first < self._span else first
         following = {}
         here = entry
-        while self._kinds[here] == OPEN:
+        while self._kinds[here] != EXIT:
             ways = [way for way in self._ways_from(here) if passed[way]]
             passed[ways[0]] = False
             # Where the stream comes back to a cell, the way of the last time counts, so that no cell occurs twice.
@@ -123,20 +120,9 @@ class Flow:
             numbers.append(following[numbers[-1]])
         return [self._cell_at(number) for number in numbers]
 
-    def _entry(self, first):
-        """Return the first cell of a stream that is not on the shore, where `first` is its first cell."""
-        if self._kinds[first] == SHORE:
-            return first + self._span
-        return first
-
     def _ways_from(self, number):
         """Return the four ways from a cell."""
         return [len(SIDES) * number + side for side in range(len(SIDES))]
-
-    def _ways_to(self, number):
-        """Return the ways to an open cell from open neighbours."""
-        return [len(SIDES) * (number - step) + side for side, step in enumerate(self._steps)
-                if self._kinds[number - step] == OPEN]
 
     def _end_of(self, way):
         """Return the cell to which the way leads."""
@@ -152,8 +138,10 @@ class Flow:
         return (number // self._span - 1, number % self._span + self._south)
 
 
-def _kind(basin, cell):
-    """Return the kind of a cell of the box or around it."""
-    if cell[0] < 0:
-        return SHORE
-    return OPEN if basin.is_open(cell) else EXIT
+def _kinds(basin, box):
+    """Return the kinds of the cells of the box and around it, in ascending order of the cells."""
+    rows = range(box.south - 1, box.north + 2)
+    kinds = [CLOSED for _ in rows]
+    for x in range(box.east + 2):
+        kinds.extend([OPEN if basin.is_open((x, y)) else EXIT for y in rows])
+    return kinds

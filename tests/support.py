@@ -128,7 +128,7 @@ class PlainBasin:
         return self.is_exit(cells[-2], last) or len(cells) == 2 and on_shore and last[0] == 0 and last not in self.open
 
     def is_valid(self, streams):
-        firsts = [cells[0] for cells in streams]
+        firsts = [cells[0] for cells in streams if cells]
         sides = [frozenset(cells[at - 1:at + 1]) for cells in streams for at in range(1, len(cells))]
         return (all(self.is_stream(cells) for cells in streams) and len(sides) == len(set(sides))
                 and all(firsts.count(first) <= (1 if first[0] < 0 else 2) for first in firsts))
@@ -151,11 +151,77 @@ class PlainBasin:
                     waiting.append(other)
         return fed
 
+    def leaking_cells(self, streams):
+        """The open cells from which rest steps lead to an exit, found by going on until nothing is added."""
+        steps, leaking, before = self.rest_steps(streams), set(), None
+        while leaking != before:
+            before = set(leaking)
+            leaking |= {cell for cell in self.open for other in steps[cell] if other in leaking or other not in self.open}
+        return leaking
+
     def are_full(self, streams):
         """Whether the valid streams are full, by point 22: no fed cell has a rest step to an exit."""
         firsts, steps = [cells[0] for cells in streams], self.rest_steps(streams)
         return (all(other in self.open for cell in self.fed_cells(streams) for other in steps[cell])
                 and all((-1, y) in firsts for y in self.rows if (0, y) not in self.open))
+
+
+def other_streams(plain, firsts):
+    """Full streams, where as many as can begin at each cell of the list, in its order (a source stands there twice)."""
+    passed, begun = set(), []
+    for first in firsts:
+        entry = (0, first[1]) if first[0] < 0 else first
+        if entry not in plain.open:
+            begun.append(first)
+            continue
+        before, waiting, last = {entry: None}, [entry], None
+        while waiting and last is None:
+            cell = waiting.pop()
+            for other in sides_at(cell):
+                if other[0] >= 0 and other not in before and (cell, other) not in passed and last is None:
+                    before[other] = cell
+                    if other in plain.open:
+                        waiting.append(other)
+                    else:
+                        last = other
+        if last is not None:
+            begun.append(first)
+            while before[last] is not None:
+                step = (before[last], last)
+                passed ^= {step[::-1]} if step[::-1] in passed else {step}
+                last = before[last]
+    return [taken(plain, first, passed) for first in begun]
+
+
+def taken(plain, first, passed):
+    """The cells of a stream from this first cell on, whose steps are taken away from those that are passed."""
+    cells = [first, (0, first[1])] if first[0] < 0 else [first]
+    while cells[-1] in plain.open:
+        step = min(step for step in passed if step[0] == cells[-1])
+        passed.remove(step)
+        cells.append(step[1])
+    return cells
+
+
+def wanted_growth(extra):
+    """The growth of the bank with these extra cells, by the words of the document."""
+    cells = set(extra)
+    sides = [other for cell in cells for other in sides_at(cell) if other[0] >= 0 and other not in cells]
+    return len(sides) - sum(x == 0 for x, y in cells)
+
+
+def wanted_count(extra, struck):
+    """The count of the bank with these extra cells, by the words of the document."""
+    return sum(0 <= x <= 39 and (x, y) in set(extra) for x, y in set(struck))
+
+
+def small_lists(many, seed=3):
+    """Lists of struck and of barred cells, each pair with at most nine open cells between them."""
+    for at, code in enumerate(scattered(many, 2 ** 18, seed=seed)):
+        width, height = ((3, 3), (2, 4), (1, 9), (4, 2), (9, 1))[at % 5]
+        struck = [cell for cell in grid_cells(code, width, height) if cell != (at % width, at % height)]
+        barred = grid_cells(code >> 9 & code >> 4 & code >> 2, width, height)
+        yield struck, [*barred, *[(-1, 1), (0, 0), (3, 1), (1, 3)][:at // 5 % 5]]
 
 
 class PlayCase(unittest.TestCase):

@@ -2,6 +2,7 @@ import unittest
 
 from support import FAR, PlayCase, grid_cells
 
+from neverpenned.banks import Bank
 from neverpenned.boundaries import boundary, boundary_length, is_boundary, next_edge, previous_edge, step_letter
 from neverpenned.cells import neighbours
 from neverpenned.edges import ahead, begin, edge_image, end
@@ -11,16 +12,6 @@ from neverpenned.symmetries import Symmetry
 
 STAIR = Region([(0, 0), (1, 0), (1, 1)])
 WALKERS = (next_edge, previous_edge, step_letter)
-
-
-class Shore:
-    """A ground without bounds, as banks are: all cells with x < 0, and some others."""
-
-    def __init__(self, extra=()):
-        self.extra = extra
-
-    def __contains__(self, cell):
-        return cell[0] < 0 or cell in self.extra
 
 
 class IsBoundaryTest(PlayCase):
@@ -39,10 +30,10 @@ class IsBoundaryTest(PlayCase):
 
     def test_a_ground_without_bounds(self):
         for y in (-121, 0, 121):
-            self.same(is_boundary(Shore(), ((-1, y), (0, y))), True)
-            self.same(is_boundary(Shore(), ((0, y), (-1, y))), False)
-        self.same(is_boundary(Shore([(0, 4)]), ((-1, 4), (0, 4))), False)
-        self.same(is_boundary(Shore([(0, 4)]), ((0, 4), (1, 4))), True)
+            self.same(is_boundary(Bank(), ((-1, y), (0, y))), True)
+            self.same(is_boundary(Bank(), ((0, y), (-1, y))), False)
+        self.same(is_boundary(Bank([(0, 4)]), ((-1, 4), (0, 4))), False)
+        self.same(is_boundary(Bank([(0, 4)]), ((0, 4), (1, 4))), True)
 
     def test_wrong_edges(self):
         for edge in (((0, 0), (0, 0)), ((0, 0), (1, 1)), ((121, 0), (122, 0)), ((0, -121), (0, -122)),
@@ -81,11 +72,11 @@ class StepsTest(PlayCase):
         self.same(previous_edge(ring, ((0, 1), (1, 1))), ((1, 0), (1, 1)))
 
     def test_a_ground_without_bounds(self):
-        shore = Shore()
+        shore = Bank()
         self.same(next_edge(shore, ((-1, 0), (0, 0))), ((-1, 1), (0, 1)))
         self.same(previous_edge(shore, ((-1, 0), (0, 0))), ((-1, -1), (0, -1)))
         self.same(step_letter(shore, ((-1, 0), (0, 0))), "s")
-        bank = Shore([(0, 2)])
+        bank = Bank([(0, 2)])
         edges = [((-1, 1), (0, 1))]
         for _ in range(4):
             edges.append(next_edge(bank, edges[-1]))
@@ -94,10 +85,54 @@ class StepsTest(PlayCase):
         for at in range(4):
             self.same(previous_edge(bank, edges[at + 1]), edges[at])
 
+    def test_banks_at_the_reach_and_one_cell_beyond_it(self):
+        bank = Bank([(0, 120), (0, -120), (5, 120), (120, 120)])
+        walk = [((-1, 119), (0, 119)), ((0, 120), (0, 119)), ((0, 120), (1, 120)), ((0, 120), (0, 121)),
+                ((-1, 121), (0, 121)), ((-1, 122), (0, 122))]
+        for at in range(5):
+            self.same(next_edge(bank, walk[at]), walk[at + 1])
+            if at > 0:
+                self.same(previous_edge(bank, walk[at]), walk[at - 1])
+        self.same([step_letter(bank, edge) for edge in walk[:5]], list("rllrs"))
+        walk = [((-1, -122), (0, -122)), ((-1, -121), (0, -121)), ((0, -120), (0, -121)), ((0, -120), (1, -120)),
+                ((0, -120), (0, -119)), ((-1, -119), (0, -119))]
+        for at in range(1, 5):
+            self.same(next_edge(bank, walk[at]), walk[at + 1])
+            self.same(previous_edge(bank, walk[at]), walk[at - 1])
+        around = [((120, 120), (119, 120)), ((120, 120), (120, 119)), ((120, 120), (121, 120)), ((120, 120), (120, 121))]
+        for at in range(4):
+            self.same(next_edge(bank, around[at - 1]), around[at])
+            self.same(previous_edge(bank, around[at]), around[at - 1])
+
+    def test_the_rule_of_the_document_in_small_banks(self):
+        for code in range(0, 2 ** 9):
+            bank = Bank(grid_cells(code, 3, 3))
+            cells = [(x, y) for x in range(-1, 3) for y in range(-1, 4)]
+            edges = [(cell, other) for cell in cells for other in neighbours(cell) if is_boundary(bank, (cell, other))]
+            for edge in edges:
+                after = next_edge(bank, edge)
+                self.same((after, step_letter(bank, edge)), self.wanted(bank, edge))
+                self.same(is_boundary(bank, after), True)
+                self.same(previous_edge(bank, after), edge)
+                self.same(next_edge(bank, previous_edge(bank, edge)), edge)
+            # The boundary is longer than that of the shore by the growth.
+            self.assertEqual(len(edges), 5 + bank.growth)
+
+    def test_edges_that_are_no_boundary_edges_of_a_bank(self):
+        bank = Bank([(0, 0), (1, 0)])
+        for edge in (((-1, 0), (0, 0)), ((0, 0), (-1, 0)), ((0, 0), (1, 0)), ((0, 1), (-1, 1)), ((-1, 0), (-2, 0)),
+                     ((-121, 121), (-120, 121)), ((1, 1), (1, 0)), ((121, 121), (121, 120))):
+            self.same(is_boundary(bank, edge), False)
+            for call in WALKERS:
+                self.refused(NotBoundary, {"edge": edge}, call, bank, edge)
+        for edge in (((-1, 122), (0, 122)), ((-122, 0), (-121, 0)), ((-1, 5), (1, 5)), ((0, FAR), (0, FAR))):
+            for call in (is_boundary, *WALKERS):
+                self.refused(BadEdge, {"edge": edge}, call, bank, edge)
+
     def test_edges_that_are_returned_may_lie_farther(self):
-        self.same(next_edge(Shore(), ((-1, 121), (0, 121))), ((-1, 122), (0, 122)))
-        self.same(previous_edge(Shore(), ((-1, -121), (0, -121))), ((-1, -122), (0, -122)))
-        self.same(step_letter(Shore(), ((-1, 121), (0, 121))), "s")
+        self.same(next_edge(Bank(), ((-1, 121), (0, 121))), ((-1, 122), (0, 122)))
+        self.same(previous_edge(Bank(), ((-1, -121), (0, -121))), ((-1, -122), (0, -122)))
+        self.same(step_letter(Bank(), ((-1, 121), (0, 121))), "s")
 
     def test_regions_at_the_rim_of_the_board(self):
         corner = Region([(120, 120)])
@@ -112,7 +147,7 @@ class StepsTest(PlayCase):
             for edge in (((-1, 0), (0, 0)), ((0, 0), (1, 0)), ((7, 7), (7, 8)), ((121, 120), (121, 121))):
                 self.refused(NotBoundary, {"edge": edge}, call, STAIR, edge)
             self.refused(NotBoundary, {"edge": ((0, 0), (1, 0))}, call, Region(), ((0, 0), (1, 0)))
-            self.refused(NotBoundary, {"edge": ((0, 0), (-1, 0))}, call, Shore(), ((0, 0), (-1, 0)))
+            self.refused(NotBoundary, {"edge": ((0, 0), (-1, 0))}, call, Bank(), ((0, 0), (-1, 0)))
 
     def test_the_rule_of_the_document_in_all_small_regions(self):
         for code in range(2 ** 9):

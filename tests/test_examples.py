@@ -5,6 +5,7 @@ import unittest
 from support import PlayCase
 
 from neverpenned.basins import Basin
+from neverpenned.bestbanks import best_bank
 from neverpenned.closings import closing
 from neverpenned.components import components, holes
 from neverpenned.contours import contours
@@ -34,8 +35,9 @@ class ExamplesTest(PlayCase):
     def test_closings(self):
         self.same(closing(((0, 1), (0, 0)), ((-1, 0), (0, 0))), [((1, 0), (0, 0)), ((0, -1), (0, 0))])
 
-    def test_the_streams_of_the_example_of_banks(self):
-        self.same(stream_count(Basin([(0, 0), (1, 0)])), 5)
+    def test_banks(self):
+        self.same([stream_count(Basin([(0, 0), (1, 0)])), best_bank([(0, 0), (1, 0)]).extra, best_bank([(1, 0)]).extra],
+                  [5, ((0, 0), (1, 0)), ()])
 
 
 if __name__ == "__main__":

@@ -19,6 +19,13 @@ FUNCTIONS = {
     "rotation": ["turn_sum(loop)", "euler(region)"],
     "cuts": ["cut_size(basin, cells)", "least_cuts(basin)"],
     "streams": ["full_streams(basin)", "stream_count(basin)"],
+    "streamcheck": ["first_fault(basin, streams)", "is_full(basin, streams, cells)"],
+    "prices": ["count_in(bank, struck)", "price(bank, struck)", "compare(first, second, struck)"],
+    "bestbanks": ["is_allowed(bank, barred)", "best_bank(struck, barred=())"],
+    "plainbanks": ["best_banks(struck, barred=())", "plain_best(struck, barred=())"],
+    "certificates": ["bank_certificate(struck, barred=())", "judge_bank(struck, barred, certificate)"],
+    "landfast": ["landfast(bank)", "islands(bank)"],
+    "walks": ["start_edge(number)", "ahead_edges(ground, edge, many)", "landing_steps(ground, edge)"],
 }
 CLASSES = {
     ("symmetries", "Symmetry(code)"): ["named(name)", "__call__(cell)", "__mul__(other)", "__invert__()",
@@ -34,9 +41,14 @@ CLASSES = {
                                   "__neg__()", "__add__(other)", "image(symmetry)", "begun_at(at)"],
     ("basins", "Basin(struck, barred=())"): ["rows()", "is_open(cell)", "is_exit(cell, other)", "open_cells()",
                                              "mirrored()"],
+    ("rests", "Rest(basin, streams)"): ["may_step(cell, other)", "reached(cells)", "leaks(cell)"],
+    ("banks", "Bank(extra=())"): ["__contains__(cell)", "__or__(other)", "__and__(other)", "__eq__(other)",
+                                  "inside(other)", "cut_off(box)", "shifted(north)", "mirrored()"],
+    ("certificates", "BankCertificate(extra, streams, grounds, excuses)"): [],
 }
 PROPERTIES = {("symmetries", "Symmetry"): ["mirrors"], ("boxes", "Box"): ["width", "height", "area"],
-              ("regions", "Region"): ["box"], ("loops", "Loop"): ["area"], ("basins", "Basin"): ["sources", "box"]}
+              ("regions", "Region"): ["box"], ("loops", "Loop"): ["area"], ("basins", "Basin"): ["sources", "box"],
+              ("rests", "Rest"): ["fed", "full"], ("banks", "Bank"): ["growth"]}
 CLASS_METHODS = {("symmetries", "Symmetry"): ["named"], ("boxes", "Box"): ["around"]}
 
 
