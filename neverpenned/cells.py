@@ -45,6 +45,11 @@ def are_neighbours(first, second):
     return abs(first[0] - second[0]) + abs(first[1] - second[1]) == 1
 
 
+def are_touching(first, second):
+    """Tell whether two cells, which may be any, are different and neither coordinate differs by more than 1."""
+    return first != second and abs(first[0] - second[0]) <= 1 and abs(first[1] - second[1]) <= 1
+
+
 def touching(cell):
     """Return the eight touching cells, counterclockwise from the east."""
     check_cell(cell)

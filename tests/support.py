@@ -156,7 +156,8 @@ class PlainBasin:
         steps, leaking, before = self.rest_steps(streams), set(), None
         while leaking != before:
             before = set(leaking)
-            leaking |= {cell for cell in self.open for other in steps[cell] if other in leaking or other not in self.open}
+            leaking |= {cell for cell in self.open
+                        if any(other in leaking or other not in self.open for other in steps[cell])}
         return leaking
 
     def are_full(self, streams):

@@ -99,7 +99,7 @@ class StepsTest(PlayCase):
         for at in range(1, 5):
             self.same(next_edge(bank, walk[at]), walk[at + 1])
             self.same(previous_edge(bank, walk[at]), walk[at - 1])
-        around = [((120, 120), (119, 120)), ((120, 120), (120, 119)), ((120, 120), (121, 120)), ((120, 120), (120, 121))]
+        around = [((120, 120), other) for other in ((119, 120), (120, 119), (121, 120), (120, 121))]
         for at in range(4):
             self.same(next_edge(bank, around[at - 1]), around[at])
             self.same(previous_edge(bank, around[at]), around[at - 1])

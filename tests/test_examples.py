@@ -6,11 +6,15 @@ from support import PlayCase
 
 from neverpenned.basins import Basin
 from neverpenned.bestbanks import best_bank
+from neverpenned.breakers import PenBreaker
 from neverpenned.closings import closing
 from neverpenned.components import components, holes
 from neverpenned.contours import contours
+from neverpenned.errors import NotHeld, Occupied
+from neverpenned.patterns import lacking
 from neverpenned.regions import Region
 from neverpenned.rotation import euler
+from neverpenned.runners import BankRunner
 from neverpenned.streams import stream_count
 from neverpenned.symmetries import Symmetry
 from neverpenned.turnwords import word_of
@@ -38,6 +42,22 @@ class ExamplesTest(PlayCase):
     def test_banks(self):
         self.same([stream_count(Basin([(0, 0), (1, 0)])), best_bank([(0, 0), (1, 0)]).extra, best_bank([(1, 0)]).extra],
                   [5, ((0, 0), (1, 0)), ()])
+
+    def test_runners(self):
+        runner = BankRunner.played([(0, 2), (1, 1), (0, 4)])
+        self.same([runner.visited, runner.marks, runner.bank_at(3).extra],
+                  [((0, 0), (0, 1), (0, 3), (1, 4)), (0, 2, 4, 7), ((0, 2), (0, 4))])
+        self.refused(Occupied, {"cell": (0, 1)}, BankRunner.played, [(0, 2), (0, 1)])
+
+    def test_patterns(self):
+        self.same([lacking(3, [-1, 0]), lacking(4, [1]), lacking(6, [])], [[1], [0], []])
+        self.refused(NotHeld, {"level": 3}, lacking, 3, [])
+
+    def test_breakers(self):
+        breaker = PenBreaker(10, prepared=True)
+        breaker.strike()
+        breaker.move((0, 1))
+        self.same([breaker.strike(), breaker.reasons, breaker.phase], [(-10, -1), ("wall", "wall"), "move"])
 
 
 if __name__ == "__main__":

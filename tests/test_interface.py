@@ -26,6 +26,15 @@ FUNCTIONS = {
     "certificates": ["bank_certificate(struck, barred=())", "judge_bank(struck, barred, certificate)"],
     "landfast": ["landfast(bank)", "islands(bank)"],
     "walks": ["start_edge(number)", "ahead_edges(ground, edge, many)", "landing_steps(ground, edge)"],
+    "watches": ["struck_ahead(runner, many)", "trail_stands(runner)", "growth_gap(runner, early, late, cells)"],
+    "stretches": ["walk_part(runner, first, last)", "visits(runner, cell, last)", "enclosed(runner, cell, last)"],
+    "runnertexts": ["runner_text(runner)", "read_runner(text)"],
+    "patterns": ["patterns(level)", "holds(level, columns)", "lacking(level, columns)"],
+    "walls": ["is_inside(half, cell)", "is_outer(half, cell)", "wall_cell(half, wall, column)",
+              "level_of(half, wall, cell)", "column_of(half, wall, cell)", "wall_cells(half)", "corner_cells(half)",
+              "struck_columns(half, wall, cell, struck)"],
+    "pens": ["is_held(half, cell, struck)", "lacking_cells(half, cell, struck)"],
+    "strikejudge": ["judge_strikes(half, prepared, cells, strikes)"],
 }
 CLASSES = {
     ("symmetries", "Symmetry(code)"): ["named(name)", "__call__(cell)", "__mul__(other)", "__invert__()",
@@ -45,11 +54,18 @@ CLASSES = {
     ("banks", "Bank(extra=())"): ["__contains__(cell)", "__or__(other)", "__and__(other)", "__eq__(other)",
                                   "inside(other)", "cut_off(box)", "shifted(north)", "mirrored()"],
     ("certificates", "BankCertificate(extra, streams, grounds, excuses)"): [],
+    ("runners", "BankRunner(code=0)"): ["played(strikes, code=0)", "strike(cell)", "undo()", "copy()", "to_own(cell)",
+                                        "to_board(cell)", "bank_at(turn)", "barred_at(turn)", "struck_by(turn)",
+                                        "trail()", "edges_ahead(many)", "certificate_at(turn)"],
+    ("breakers", "PenBreaker(half=65, start=(0, 0), *, prepared=False)"): ["strike()", "move(cell)", "is_struck(cell)",
+                                                                           "undo()", "copy()"],
 }
 PROPERTIES = {("symmetries", "Symmetry"): ["mirrors"], ("boxes", "Box"): ["width", "height", "area"],
               ("regions", "Region"): ["box"], ("loops", "Loop"): ["area"], ("basins", "Basin"): ["sources", "box"],
-              ("rests", "Rest"): ["fed", "full"], ("banks", "Bank"): ["growth"]}
-CLASS_METHODS = {("symmetries", "Symmetry"): ["named"], ("boxes", "Box"): ["around"]}
+              ("rests", "Rest"): ["fed", "full"], ("banks", "Bank"): ["growth"],
+              ("runners", "BankRunner"): ["turn", "marks"], ("breakers", "PenBreaker"): ["reasons"]}
+CLASS_METHODS = {("symmetries", "Symmetry"): ["named"], ("boxes", "Box"): ["around"],
+                 ("runners", "BankRunner"): ["played"]}
 
 
 def module_of(name):

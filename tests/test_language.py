@@ -60,6 +60,7 @@ def bound_names(node):
     """The parameters and the assigned names of a function or a module."""
     names = [part.arg for part in ast.walk(node) if isinstance(part, ast.arg)]
     names.extend(part.id for part in ast.walk(node) if isinstance(part, ast.Name) and isinstance(part.ctx, ast.Store))
+    names.extend(part.name for part in ast.walk(node) if isinstance(part, ast.ExceptHandler) and part.name)
     return names
 
 

@@ -79,7 +79,8 @@ class AheadEdgesTest(PlayCase):
         for before, after in zip(walk, walk[1:]):
             self.same(next_edge(comb, before), after)
         corner = Region([(120, 120), (120, 119)])
-        self.same(ahead_edges(corner, ((120, 120), (121, 120)), 2), [((120, 120), (120, 121)), ((120, 120), (119, 120))])
+        self.same(ahead_edges(corner, ((120, 120), (121, 120)), 2),
+                  [((120, 120), (120, 121)), ((120, 120), (119, 120))])
 
     def test_the_order_of_the_checks(self):
         for edge in FAR_EDGES:
