@@ -27,6 +27,7 @@ class Flow:
         self._steps = [east * self._span + north for east, north in SIDES]
         self._kinds = _kinds(basin, box)
         self._passed = [False] * (len(SIDES) * len(self._kinds))
+        # The first cells of the streams, in ascending order.
         self._begun = []
         self._sources = [self._number_of(cell) for cell in basin.sources]
         self._add_shore_streams()
@@ -41,7 +42,7 @@ class Flow:
     def all_streams(self):
         """Return the streams as lists of cells, in ascending order of their first cells."""
         passed = list(self._passed)
-        return [self._take_stream(first, passed) for first in sorted(self._begun)]
+        return [self._take_stream(first, passed) for first in self._begun]
 
     def closed_cells(self):
         """Return the cells, ascending, to which rest steps lead from sources that do not leak; these are included."""

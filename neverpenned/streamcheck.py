@@ -45,10 +45,9 @@ def find_fault(basin, streams):
             return at
         first = cells[0]
         begun[first] = begun.get(first, 0) + 1
-        sides = _sides_passed(cells)
-        if begun[first] > most[first] or len(set(sides)) < len(sides):
+        if begun[first] > most[first]:
             return at
-        for side in sides:
+        for side in _sides_passed(cells):
             if side in passed:
                 return at
             passed[side] = True

@@ -160,6 +160,17 @@ class JudgeTest(CertificateCase):
         self.judge(self.PAIR, [], [], self.STREAMS, [], [((0, 0), (1, 0)), ((1, 0), (2, 0))], False)
         self.judge(self.PAIR, [(1, 0)], self.PAIR, self.STREAMS, [], [], False)
 
+    def test_a_barred_cell_in_extra(self):
+        # With it the cut has one side less for each neighbour, and just as many streams can go out around it.
+        ring = [(x, y) for x in range(3) for y in range(3) if (x, y) != (1, 1)]
+        outs = [[(0, 0), (0, -1)], [(1, 0), (1, -1)], [(2, 0), (2, -1)], [(2, 0), (3, 0)], [(2, 1), (3, 1)],
+                [(2, 2), (3, 2)], [(2, 2), (2, 3)], [(1, 2), (1, 3)], [(0, 2), (0, 3)]]
+        self.judge(ring, [], [*ring, (1, 1)], outs, [((1, 0), (1, 1))], [], True)
+        self.judge(ring, [(1, 1)], [*ring, (1, 1)], outs, [((1, 0), (1, 1))], [], False)
+        self.judge(ring, [(1, 1)], ring, outs, [], [], False)
+        inward = [[(x, y), (1, 1)] for x, y in ((0, 1), (1, 0), (1, 2), (2, 1))]
+        self.judge(ring, [(1, 1)], ring, [*outs, *inward], [], [], True)
+
     def test_the_streams(self):
         for at in range(5):
             fewer = [*self.STREAMS[:at], *self.STREAMS[at + 1:]]

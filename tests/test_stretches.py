@@ -140,10 +140,20 @@ class EnclosedTest(PlayCase):
             self.same(enclosed(wanderer, (2, 3), 100), [(1, 3), (1, 4), (2, 3)])
             self.same(enclosed(wanderer, (1, 4), 100), [(1, 4)])
 
+    def test_a_cell_that_is_left_over_a_corner(self):
+        # The cell (3, 3) has the bank on three sides; between two of them the walk goes around the cell (2, 4).
+        bay = [(x, y) for x in range(4) for y in range(2, 6) if (x, y) not in ((3, 3), (2, 4))]
+        wanderer = Wanderer(bay, 3)
+        self.same(visits(wanderer, (3, 3), 100), [7, 8, 13])
+        self.same(visits(wanderer, (2, 4), 100), [9, 10, 11, 12])
+        self.same([enclosed(wanderer, (3, 3), last) for last in (7, 8, 12, 13, 100)],
+                  [[], [(3, 3)], [(3, 3)], [(2, 4), (3, 3)], [(2, 4), (3, 3)]])
+        self.same(enclosed(wanderer, (2, 4), 100), [(2, 4)])
+
     def test_bays_by_the_words_of_the_document(self):
         spiral = [*[(x, y) for x in range(7) for y in (2, 8)], *[(6, y) for y in range(3, 8)], (0, 4), (1, 4), (2, 4),
                   (4, 4), (4, 5), (4, 6), (3, 6), (2, 6), (5, 6)]
-        for extra in (BAY, spiral, [(x, y + 5) for x, y in BAY], EXAMPLE):
+        for extra in (BAY, spiral, [(x, y + 5) for x, y in BAY], EXAMPLE, [cell for cell in spiral if cell != (4, 6)]):
             wanderer = Wanderer(extra, 12)
             walk = plain_walk(wanderer, -120, 300)
             for cell in sorted({right for left, right in walk if abs(right[1]) < 30}):
