@@ -95,7 +95,7 @@ def cells_before(basin, passed, cells):
                 if other not in found and (cell, other) not in passed and basin.is_open(other):
                     found[other] = cell
                     reached.append(other)
-        waiting = reached
+        waiting = list(reached)
     return found
 
 
@@ -117,5 +117,5 @@ def ways_to_exits(basin, passed):
                 if other not in found and (other, cell) not in passed and basin.is_open(other):
                     found[other] = cell
                     reached.append(other)
-        waiting = reached
+        waiting = list(reached)
     return found

@@ -35,6 +35,8 @@ BARRED_WORDS = re.compile(r"\b(type|typing|typing_extensions|enum|Enum|IntEnum|S
                           r"ABC|ABCMeta|namedtuple|NamedTuple|TypedDict|TYPE_CHECKING|abstractmethod)\b"
                           r"|dataclass|overload|contextmanager|_wall\b|_WallAttr")
 
+CHANGING = set("append clear extend insert pop remove reverse setdefault update sort".split())
+
 # What the rules bar altogether, or bar for now in a package whose classes have operators, lengths and iteration.
 BARRED_NODES = (ast.GeneratorExp, ast.SetComp, ast.Global, ast.AsyncFunctionDef, ast.Await, ast.Div, ast.AnnAssign)
 
@@ -62,6 +64,34 @@ def bound_names(node):
     names.extend(part.id for part in ast.walk(node) if isinstance(part, ast.Name) and isinstance(part.ctx, ast.Store))
     names.extend(part.name for part in ast.walk(node) if isinstance(part, ast.ExceptHandler) and part.name)
     return names
+
+
+def walked_names(node):
+    """The names and attributes that a loop goes over, but not those of which it goes over a copy."""
+    if isinstance(node, ast.Call) and ast.unparse(node.func) in ("list", "sorted", "tuple", "dict"):
+        return []
+    told = [ast.unparse(node)] if isinstance(node, (ast.Name, ast.Attribute)) else []
+    return told + [name for part in ast.iter_child_nodes(node) for name in walked_names(part)]
+
+
+def changed_names(rows):
+    """The names and attributes that these rows change in place."""
+    names = []
+    for node in [part for row in rows for part in ast.walk(row)]:
+        if isinstance(node, ast.Call) and isinstance(node.func, ast.Attribute) and node.func.attr in CHANGING:
+            names.append(ast.unparse(node.func.value))
+        targets = node.targets if isinstance(node, (ast.Assign, ast.Delete)) else []
+        targets = [node.target] if isinstance(node, ast.AugAssign) else targets
+        names.extend(ast.unparse(target.value) for target in targets if isinstance(target, ast.Subscript))
+    return names
+
+
+def other_names(function):
+    """For each name those that it is given as another name of the very same thing, in either direction."""
+    pairs = [(ast.unparse(target), ast.unparse(node.value)) for node in ast.walk(function)
+             if isinstance(node, ast.Assign) and isinstance(node.value, (ast.Name, ast.Attribute))
+             for target in node.targets]
+    return pairs + [(b, a) for a, b in pairs]
 
 
 class LanguageTest(unittest.TestCase):
@@ -133,6 +163,17 @@ class LanguageTest(unittest.TestCase):
                         at_once = any(node is told for told in iterated)
                         kept = word == "range" and any(node is told for told in ranges)
                         self.assertTrue(at_once or kept, f"{name}: {node.lineno}")
+
+    def test_what_a_loop_walks_is_not_changed_in_it_under_any_name(self):
+        for name, tree in trees():
+            for function in functions(tree):
+                pairs = other_names(function)
+                for node in [part for part in ast.walk(function) if isinstance(part, ast.For)]:
+                    changed = changed_names(node.body)
+                    for walked in walked_names(node.iter):
+                        self.assertNotIn(walked, changed, f"{name}: {node.lineno}")
+                        for other in [b for a, b in pairs if a == walked]:
+                            self.assertNotIn(other, changed, f"{name}: {node.lineno}")
 
     def test_names(self):
         for name, tree in trees():
