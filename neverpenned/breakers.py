@@ -3,11 +3,8 @@
 from neverpenned.cells import are_touching, check_cell, touching
 from neverpenned.errors import AlreadyStruck, BadStep, NothingToUndo, TooNear, WrongPhase
 from neverpenned.pens import check_preparation, lacking_among, may_start
+from neverpenned.phases import MOVE, PENNED, STRIKE
 from neverpenned.walls import check_half, corner_cells, is_corner, lies_outer, wall_cells
-
-STRIKE = "strike"
-MOVE = "move"
-PENNED = "penned"
 
 
 class PenBreaker:
@@ -74,6 +71,10 @@ class PenBreaker:
         """Tell whether the cell is struck, by the preparation or in the game."""
         check_cell(cell)
         return cell in self._members
+
+    def path(self):
+        """Return the list of the cells on which the runner has stood after 0, 1, 2, .. moves."""
+        return list(self._path)
 
     def undo(self):
         """Take back the latest strike or move."""

@@ -88,18 +88,38 @@ def moved(cell, east, north):
 def cell_text(cell):
     """Return the text x,y of the cell."""
     check_cell(cell)
+    return plain_text(cell)
+
+
+def plain_text(cell):
+    """Return the text x,y of any cell."""
     return f"{cell[0]},{cell[1]}"
 
 
 def read_cell(text):
     """Return the cell that the text writes."""
     check_length(text, TEXT_MOST)
-    parts = text.split(",")
-    if len(parts) != 2 or not _writes_integer(parts[0]) or not _writes_integer(parts[1]):
+    cell = _written_cell(text)
+    if cell is None:
         raise BadText(1)
-    cell = (int(parts[0]), int(parts[1]))
     check_cell(cell)
     return cell
+
+
+def cell_or_none(text, most=REACH):
+    """Return the cell that the text writes, or None if there is none or if it has a coordinate beyond `most`."""
+    cell = _written_cell(text) if len(text) <= TEXT_MOST else None
+    if cell is None or max(abs(cell[0]), abs(cell[1])) > most:
+        return None
+    return cell
+
+
+def _written_cell(text):
+    """Return the cell that a text of at most 20 characters writes, or None if it is not of this form."""
+    parts = text.split(",")
+    if len(parts) != 2 or not _writes_integer(parts[0]) or not _writes_integer(parts[1]):
+        return None
+    return (int(parts[0]), int(parts[1]))
 
 
 def _writes_integer(text):

@@ -1,6 +1,6 @@
 """Texts of bank runners: the code and the struck cells."""
 
-from neverpenned.cells import cell_text, read_cell
+from neverpenned.cells import cell_or_none, cell_text
 from neverpenned.checks import check_length
 from neverpenned.errors import BadDeed, BadText, PlayError
 from neverpenned.runners import BankRunner
@@ -20,7 +20,7 @@ def read_runner(text):
     lines = text.split("\n")
     if lines[0] not in CODE_LINES:
         raise BadText(1)
-    cells = [_cell_in(line) for line in lines[1:]]
+    cells = [cell_or_none(line) for line in lines[1:]]
     if None in cells:
         raise BadText(cells.index(None) + 2)
     runner = BankRunner(CODE_LINES.index(lines[0]))
@@ -30,11 +30,3 @@ def read_runner(text):
         except PlayError as error:
             raise BadDeed(number) from error
     return runner
-
-
-def _cell_in(line):
-    """Return the cell whose text the line is, or None if it is none."""
-    try:
-        return read_cell(line)
-    except PlayError:
-        return None

@@ -11,7 +11,10 @@ from neverpenned.closings import closing
 from neverpenned.components import components, holes
 from neverpenned.contours import contours
 from neverpenned.errors import NotHeld, Occupied
+from neverpenned.games import Game
 from neverpenned.patterns import lacking
+from neverpenned.ranks import rank
+from neverpenned.records import record_text
 from neverpenned.regions import Region
 from neverpenned.rotation import euler
 from neverpenned.runners import BankRunner
@@ -58,6 +61,17 @@ class ExamplesTest(PlayCase):
         breaker.strike()
         breaker.move((0, 1))
         self.same([breaker.strike(), breaker.reasons, breaker.phase], [(-10, -1), ("wall", "wall"), "move"])
+
+    def test_ranks(self):
+        row = Region([(0, 0), (1, 0), (2, 0)])
+        self.same([rank(row, [], 1, (0, 0)), rank(row, [], 1, (1, 0)), rank(row, [(2, 0)], 1, (1, 0)),
+                   rank(row, [(0, 0), (2, 0)], 1, (1, 0))], [1, 2, 2, None])
+
+    def test_records(self):
+        game = Game(1, board=Region([(0, 0), (1, 0), (2, 0)]))
+        game.strike((1, 0))
+        self.same([game.phase, record_text(game).splitlines()],
+                  ["penned", ["power 1", "start 0,0", "board 0,0 1,0 2,0", "out", "before", "strike 1,0"]])
 
 
 if __name__ == "__main__":

@@ -35,6 +35,17 @@ FUNCTIONS = {
               "struck_columns(half, wall, cell, struck)"],
     "pens": ["is_held(half, cell, struck)", "lacking_cells(half, cell, struck)"],
     "strikejudge": ["judge_strikes(half, prepared, cells, strikes)"],
+    "strolls": ["stroll(breaker, wishes, most)"],
+    "trials": ["try_deeds(game, deeds)"],
+    "records": ["record_text(game)", "read_record(text)"],
+    "ranks": ["ranks(board, ways_out, power)", "rank(board, ways_out, power, start)"],
+    "plans": ["breaker_plan(board, ways_out, power, start)", "runner_plan(board, ways_out, power, start)",
+              "judge_breaker(board, ways_out, power, start, plan)",
+              "judge_runner(board, ways_out, power, start, plan)"],
+    "boardplay": ["play_breaker(board, ways_out, power, start, choices)",
+                  "play_runner(board, ways_out, power, start, choices)"],
+    "images": ["game_image(game, symmetry)", "runner_image(runner, symmetry)"],
+    "studies": ["merged(first, second)"],
 }
 CLASSES = {
     ("symmetries", "Symmetry(code)"): ["named(name)", "__call__(cell)", "__mul__(other)", "__invert__()",
@@ -59,11 +70,18 @@ CLASSES = {
                                         "trail()", "edges_ahead(many)", "certificate_at(turn)"],
     ("breakers", "PenBreaker(half=65, start=(0, 0), *, prepared=False)"): ["strike()", "move(cell)", "is_struck(cell)",
                                                                            "undo()", "copy()"],
+    ("games", "Game(power, start=(0, 0), *, board=None, ways_out=(), before=())"): [
+        "strike(cell)", "move(cell)", "do(deed)", "is_struck(cell)", "landings()", "undo()", "copy()"],
+    ("trials", "Trial(game)"): ["__enter__()", "__exit__(kind, value, trace)"],
+    ("studies", "Study(game)"): ["__len__()", "__eq__(other)", "nodes()", "parent(node)", "children(node)",
+                                 "depth(node)", "deeds_at(node)", "game_at(node)", "add(node, deed)", "prune(node)",
+                                 "alike()", "lines()"],
 }
 PROPERTIES = {("symmetries", "Symmetry"): ["mirrors"], ("boxes", "Box"): ["width", "height", "area"],
               ("regions", "Region"): ["box"], ("loops", "Loop"): ["area"], ("basins", "Basin"): ["sources", "box"],
               ("rests", "Rest"): ["fed", "full"], ("banks", "Bank"): ["growth"],
-              ("runners", "BankRunner"): ["turn", "marks"], ("breakers", "PenBreaker"): ["reasons"]}
+              ("runners", "BankRunner"): ["turn", "marks"], ("breakers", "PenBreaker"): ["reasons"],
+              ("games", "Game"): ["board", "turn", "deeds"]}
 CLASS_METHODS = {("symmetries", "Symmetry"): ["named"], ("boxes", "Box"): ["around"],
                  ("runners", "BankRunner"): ["played"]}
 

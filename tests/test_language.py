@@ -197,6 +197,8 @@ class LanguageTest(unittest.TestCase):
         for name, tree in trees():
             for node in ast.walk(tree):
                 self.assertNotIsInstance(node, BARRED_NODES, name)
+                if isinstance(node, ast.Subscript) and isinstance(node.slice, ast.Tuple):
+                    self.assertFalse(any(isinstance(part, ast.Starred) for part in node.slice.elts), name)
                 if isinstance(node, ast.Compare) and isinstance(node.ops[0], (ast.Is, ast.IsNot)):
                     self.assertIsInstance(node.comparators[0], ast.Constant, name)
                 if isinstance(node, (ast.FunctionDef, ast.ClassDef)):
