@@ -22,12 +22,25 @@ def read_picture(text, west, south):
     _check_lines(lines)
     if text.count("#") > CELLS_MOST:
         raise TooMany(CELLS_MOST)
+    signs = placed_signs(lines, west, south)
+    return Region([cell for cell in signs if signs[cell] == "#"])
+
+
+def is_row(line, width, signs):
+    """Tell whether the line is not empty, has this width, and has no other characters than the signs."""
+    return line != "" and len(line) == width and len([sign for sign in line if sign in signs]) == width
+
+
+def placed_signs(lines, west, south):
+    """Return a dict from the cells to their signs, where (west, south) is the first character of the last line.
+
+    The lines have the same length. Raises the errors of numbers and cells beyond the reach.
+    """
     check_number(west, -REACH, REACH)
     check_number(south, -REACH, REACH)
     north = south + len(lines) - 1
     check_cell((west + len(lines[0]) - 1, north))
-    return Region([(west + column, north - row) for row, line in enumerate(lines)
-                   for column, sign in enumerate(line) if sign == "#"])
+    return {(west + column, north - row): sign for row, line in enumerate(lines) for column, sign in enumerate(line)}
 
 
 def _line(region, box, y):
@@ -37,7 +50,6 @@ def _line(region, box, y):
 
 def _check_lines(lines):
     """Raise BadText for the first line that is no line of a picture."""
-    width = len(lines[0])
     for number, line in enumerate(lines, start=1):
-        if line == "" or len(line) != width or line.count("#") + line.count(".") != width:
+        if not is_row(line, len(lines[0]), "#."):
             raise BadText(number)

@@ -2,12 +2,12 @@
 
 from neverpenned.banks import Bank
 from neverpenned.bestbanks import best_bank
-from neverpenned.cells import REACH, check_cell, check_cells
+from neverpenned.cells import check_cell, check_cells
 from neverpenned.certificates import bank_certificate
 from neverpenned.checks import check_number
 from neverpenned.errors import AlreadyStruck, NothingToUndo, Occupied, TooMany
 from neverpenned.symmetries import Symmetry
-from neverpenned.walks import ahead_edges, landing_steps, start_edge
+from neverpenned.walks import ahead_edges, barred_cells, passed_edges, start_edge
 
 
 class BankRunner:
@@ -57,8 +57,7 @@ class BankRunner:
         if cell in self.struck:
             raise AlreadyStruck(cell)
         bank = best_bank([*self.struck_by(self.turn), self.to_own(cell)], self.barred_at(self.turn + 1))
-        edge = self._trail[-1]
-        passed = ahead_edges(bank, edge, landing_steps(bank, edge))
+        passed = passed_edges(bank, self._trail[-1])
         self._banks.append(bank)
         self._trail.extend(passed)
         self._marks.append(len(self._trail) - 1)
@@ -106,8 +105,7 @@ class BankRunner:
     def barred_at(self, turn):
         """Return the barred cells of this turn within the reach, ascending."""
         check_number(turn, 1, self.turn + 1)
-        walked = self._trail[:self._marks[turn - 1] + 1]
-        return sorted(set([*[(0, y) for y in range(-REACH, 0)], *[right for _, right in walked]]))
+        return barred_cells(self._trail[:self._marks[turn - 1] + 1])
 
     def struck_by(self, turn):
         """Return the cells struck in the first turns, so many, as cells of the own frame."""

@@ -38,3 +38,13 @@ def landing_steps(ground, edge):
         reached = following_edge(ground, reached)
         steps += 1
     return steps
+
+
+def passed_edges(bank, edge):
+    """Return the edges that a bank runner passes in a turn from its edge on, where the bank is the new one."""
+    return ahead_edges(bank, edge, landing_steps(bank, edge))
+
+
+def barred_cells(trail):
+    """Return the barred cells within the reach, ascending, where the list has the edges of the trail from 0 on."""
+    return sorted(set([*[(0, y) for y in range(-REACH, 0)], *[right for _, right in trail]]))

@@ -1,4 +1,4 @@
-"""The examples of the document that need no more than the modules there are."""
+"""The examples of the document, each by itself."""
 
 import unittest
 
@@ -6,6 +6,7 @@ from support import PlayCase
 
 from neverpenned.basins import Basin
 from neverpenned.bestbanks import best_bank
+from neverpenned.boxes import Box
 from neverpenned.breakers import PenBreaker
 from neverpenned.closings import closing
 from neverpenned.components import components, holes
@@ -16,11 +17,13 @@ from neverpenned.patterns import lacking
 from neverpenned.ranks import rank
 from neverpenned.records import record_text
 from neverpenned.regions import Region
+from neverpenned.reports import report
 from neverpenned.rotation import euler
 from neverpenned.runners import BankRunner
 from neverpenned.streams import stream_count
 from neverpenned.symmetries import Symmetry
 from neverpenned.turnwords import word_of
+from neverpenned.views import view
 
 
 class ExamplesTest(PlayCase):
@@ -72,6 +75,14 @@ class ExamplesTest(PlayCase):
         game.strike((1, 0))
         self.same([game.phase, record_text(game).splitlines()],
                   ["penned", ["power 1", "start 0,0", "board 0,0 1,0 2,0", "out", "before", "strike 1,0"]])
+
+    def test_views(self):
+        self.same(view(BankRunner.played([(0, 2), (1, 1), (0, 4)]), Box(-1, 0, 2, 5)).splitlines(),
+                  ["#...", "#XR.", "#o..", "#X..", "#ox.", "#o.."])
+
+    def test_reports(self):
+        self.same(report(BankRunner.played([(0, 2), (1, 1), (0, 4)])).splitlines()[1],
+                  "   1 0,2       0,1            2      1      0      2")
 
 
 if __name__ == "__main__":

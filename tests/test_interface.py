@@ -46,6 +46,15 @@ FUNCTIONS = {
                   "play_runner(board, ways_out, power, start, choices)"],
     "images": ["game_image(game, symmetry)", "runner_image(runner, symmetry)"],
     "studies": ["merged(first, second)"],
+    "studytexts": ["study_text(study)", "read_study(text)"],
+    "hunts": ["wished_strike(runner, wish)", "hunt(runner, wishes)"],
+    "matches": ["pen_match(breaker)"],
+    "journals": ["journal(runner)", "first_bad_turn(entries, code=0)"],
+    "certtexts": ["certificate_text(certificate)", "read_certificate(text)"],
+    "journaltexts": ["journal_text(entries, code=0)", "read_journal(text)"],
+    "views": ["view(runner, box)", "read_view(text, west, south)"],
+    "penviews": ["pen_view(breaker)", "read_pen_view(text)"],
+    "reports": ["report(runner)", "totals(runner)"],
 }
 CLASSES = {
     ("symmetries", "Symmetry(code)"): ["named(name)", "__call__(cell)", "__mul__(other)", "__invert__()",
@@ -76,14 +85,18 @@ CLASSES = {
     ("studies", "Study(game)"): ["__len__()", "__eq__(other)", "nodes()", "parent(node)", "children(node)",
                                  "depth(node)", "deeds_at(node)", "game_at(node)", "add(node, deed)", "prune(node)",
                                  "alike()", "lines()"],
+    ("matches", "Match(code=0, power=2)"): ["played(strikes, code=0, power=2)", "strike(cell)", "undo()", "copy()"],
+    ("journals", "Entry(hit, landing, certificate)"): [],
+    ("views", "View(cell, struck, bank, visited)"): ["__eq__(other)"],
 }
 PROPERTIES = {("symmetries", "Symmetry"): ["mirrors"], ("boxes", "Box"): ["width", "height", "area"],
               ("regions", "Region"): ["box"], ("loops", "Loop"): ["area"], ("basins", "Basin"): ["sources", "box"],
               ("rests", "Rest"): ["fed", "full"], ("banks", "Bank"): ["growth"],
               ("runners", "BankRunner"): ["turn", "marks"], ("breakers", "PenBreaker"): ["reasons"],
-              ("games", "Game"): ["board", "turn", "deeds"]}
+              ("games", "Game"): ["board", "turn", "deeds"],
+              ("matches", "Match"): ["runner", "game", "turn"]}
 CLASS_METHODS = {("symmetries", "Symmetry"): ["named"], ("boxes", "Box"): ["around"],
-                 ("runners", "BankRunner"): ["played"]}
+                 ("runners", "BankRunner"): ["played"], ("matches", "Match"): ["played"]}
 
 
 def module_of(name):
