@@ -67,10 +67,11 @@ class WishedStrikeTest(PlayCase):
         self.same((runner.cell, wished_strike(runner, 312)), ((0, 72), (-12, 60)))
         runner = BankRunner.played([(-12, -6), (-12, -3), (-12, -5)])
         self.same((runner.cell, wished_strike(runner, 312)), ((0, 6), (-12, -4)))
-        runner = BankRunner.played([(-12, y) for y in range(40, 65)])
-        self.same((runner.cell, wished_strike(runner, 312)), ((0, 50), (-12, 38)))
-        runner.strike((-12, 39))
-        self.same((runner.cell, wished_strike(runner, 25 * 24)), ((0, 52), (-11, 40)))
+        # All cells of the column but the last one are struck, and then all of them.
+        runner = BankRunner.played([(-12, y) for y in range(36, 60)])
+        self.same((runner.cell, wished_strike(runner, 312)), ((0, 48), (-12, 60)))
+        runner = BankRunner.played([(-12, y) for y in range(38, 63)])
+        self.same((runner.cell, wished_strike(runner, 600)), ((0, 50), (-11, 38)))
 
     def test_cells_beyond_the_reach(self):
         # No runner comes so far in 36 turns; one is put there by its field.

@@ -93,6 +93,8 @@ class ReadPenViewTest(PlayCase):
     def test_the_number_of_lines(self):
         for many in (1, 2, 19, 20, 22, 24, 130, 132, 133, 19000):
             self.bad(1, [""] * many)
+        for many in (20, 22, 24, 64, 130, 132):
+            self.bad(1, ["+" * many, *["+" + "." * (many - 2) + "+"] * (many - 2), "+" * many])
         self.bad(1, new_lines(9))
         self.bad(1, new_lines(66))
         self.bad(1, new_lines(10) + [""])

@@ -127,7 +127,8 @@ class BadLinesTest(PlayCase):
                 lines = [*HEAD, *DEEDS]
                 lines[at] = f"{word} {cells}"
                 self.bad(at + 1, lines)
-            for line in (word.upper(), word + ",", " " + word, "x", "", word + "0,0", word + "\t0,0", word[:-1]):
+            for line in (word.upper(), word + ",", " " + word, "x", "", word + "0,0", word + "\t0,0", word[:-1],
+                         "0,0", "0,0 1,0", "-1,0 0,0 1,0 2,0 3,0"):
                 lines = [*HEAD, *DEEDS]
                 lines[at] = line
                 self.bad(at + 1, lines)
