@@ -26,7 +26,7 @@ def filled(region):
     """Return the region with all its holes."""
     cells = list(region.cells)
     for hole in holes(region):
-        cells.extend(hole.cells)
+        cells.extend(list(hole.cells))
     return Region(cells)
 
 

@@ -40,7 +40,7 @@ def first_bad_turn(entries, code=0):
         passed = passed_edges(Bank(entry.certificate.extra), trail[-1])
         if symmetry(passed[-1][1]) != entry.landing:
             return turn
-        trail.extend(passed)
+        trail.extend(list(passed))
     return None
 
 

@@ -17,7 +17,7 @@ def journal_text(entries, code=0):
     lines = []
     for entry in entries:
         lines.append(part_line(TURN, [entry.hit, entry.landing]))
-        lines.extend(certificate_lines(entry.certificate))
+        lines.extend(list(certificate_lines(entry.certificate)))
     check_number(code, 0, len(CODE_LINES) - 1)
     text = "\n".join([CODE_LINES[code], *lines])
     check_length(text, JOURNAL_TEXT_MOST)

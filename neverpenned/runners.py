@@ -59,7 +59,7 @@ class BankRunner:
         bank = best_bank([*self.struck_by(self.turn), self.to_own(cell)], self.barred_at(self.turn + 1))
         passed = passed_edges(bank, self._trail[-1])
         self._banks.append(bank)
-        self._trail.extend(passed)
+        self._trail.extend(list(passed))
         self._marks.append(len(self._trail) - 1)
         self.struck = (*self.struck, cell)
         self.cell = self.to_board(passed[-1][1])

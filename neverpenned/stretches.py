@@ -40,6 +40,6 @@ def _greatest_number(runner):
 def _walk_up_to(runner, last):
     """Return the edges of the walk with the numbers from -REACH to `last`."""
     edges = [start_edge(number) for number in range(-REACH, 0)]
-    edges.extend(runner.trail())
-    edges.extend(runner.edges_ahead(max(last - runner.marks[-1], 0)))
+    edges.extend(list(runner.trail()))
+    edges.extend(list(runner.edges_ahead(max(last - runner.marks[-1], 0))))
     return edges[:last + REACH + 1]

@@ -91,7 +91,7 @@ class Study:
         removed = 0
         while waiting:
             reached = waiting.pop()
-            waiting.extend(self.children(reached))
+            waiting.extend(list(self.children(reached)))
             del self._parents[reached]
             del self._deeds[reached]
             del self._children[reached]

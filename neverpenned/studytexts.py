@@ -14,7 +14,7 @@ def study_text(study):
         node = waiting.pop()
         deeds = study.deeds_at(node)
         lines.append(f"{len(deeds)} {deed_text(deeds[-1])}")
-        waiting.extend(study.children(node)[::-1])
+        waiting.extend(list(study.children(node)[::-1]))
     return "\n".join(lines)
 
 

@@ -37,6 +37,9 @@ BARRED_WORDS = re.compile(r"\b(type|typing|typing_extensions|enum|Enum|IntEnum|S
 
 CHANGING = set("append clear extend insert pop remove reverse setdefault update sort".split())
 
+# The attributes that are added by += and are numbers.
+NUMBERS = ("self._span",)
+
 # What the rules bar altogether, or bar for now in a package whose classes have operators, lengths and iteration.
 BARRED_NODES = (ast.GeneratorExp, ast.SetComp, ast.Global, ast.AsyncFunctionDef, ast.Await, ast.Div, ast.AnnAssign)
 
@@ -92,6 +95,13 @@ def other_names(function):
              if isinstance(node, ast.Assign) and isinstance(node.value, (ast.Name, ast.Attribute))
              for target in node.targets]
     return pairs + [(b, a) for a, b in pairs]
+
+
+def is_number(node):
+    """Tell whether what is added by += plainly is a number."""
+    if isinstance(node, ast.Call):
+        return ast.unparse(node.func).rpartition(".")[2] in ("count", "len")
+    return isinstance(node, ast.Constant) or ast.unparse(node) in NUMBERS
 
 
 class LanguageTest(unittest.TestCase):
@@ -174,6 +184,16 @@ class LanguageTest(unittest.TestCase):
                         self.assertNotIn(walked, changed, f"{name}: {node.lineno}")
                         for other in [b for a, b in pairs if a == walked]:
                             self.assertNotIn(other, changed, f"{name}: {node.lineno}")
+
+    def test_what_is_added_to_a_list_is_a_list_of_its_own(self):
+        for name, tree in trees():
+            for node in ast.walk(tree):
+                if isinstance(node, ast.Call) and ast.unparse(node.func).rpartition(".")[2] in ("extend", "update"):
+                    told = node.args[0]
+                    copied = isinstance(told, ast.Call) and ast.unparse(told.func) == "list"
+                    self.assertTrue(copied or isinstance(told, (ast.List, ast.ListComp)), f"{name}: {node.lineno}")
+                if isinstance(node, ast.AugAssign) and isinstance(node.op, (ast.Add, ast.BitOr)):
+                    self.assertTrue(is_number(node.value), f"{name}: {node.lineno}")
 
     def test_names(self):
         for name, tree in trees():
